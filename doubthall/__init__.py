@@ -1,0 +1,1 @@
+"""Doubthall: what stands when guesses may be doubted."""
