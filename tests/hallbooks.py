@@ -26,3 +26,42 @@ def made_book(dice, most_guesses=8, most_others=22, most_rules=40):
 def made_books(seed, count, **bounds):
     dice = random.Random(seed)
     return [made_book(dice, **bounds) for _ in range(count)]
+
+
+def striking_book(dice, most_guesses):
+    """A tuple (names, book) where each guess has a bane of its own that few sets yield: many rounds, many flaws."""
+    guesses = dice.randint(1, most_guesses)
+    rules = []
+    # Where only guesses ahead strike, all gets a rank or is struck; else some guesses strike one another in a ring.
+    ahead = dice.random() < 0.6
+    for guess in range(guesses):
+        pool = range(guess if ahead else guesses)
+        for _ in range(dice.choice((0, 1, 1, 2))):
+            size = min(dice.choice((0, 1, 1, 1, 1, 1, 2, 2)), len(pool))
+            rule = (guesses + guess, tuple(sorted(dice.sample(pool, size))))
+            if rule not in rules and (size or dice.random() < 0.3):
+                rules.append(rule)
+    banes = tuple(range(guesses, 2 * guesses))
+    return GUESS_NAMES[:guesses] + OTHER_NAMES[:guesses], (2 * guesses, banes, tuple(rules))
+
+
+def mixed_books(seed, count, most_guesses):
+    """Books of both sorts, by turns."""
+    dice = random.Random(seed)
+    books = []
+    for _ in range(count):
+        books.append(made_book(dice, most_guesses, 6, 12)[1])
+        books.append(striking_book(dice, most_guesses)[1])
+    return books
+
+
+def ladder(count):
+    """Each guess is struck by the one ahead of it alone, the first by none."""
+    banes = (count,) + tuple(range(count - 1))
+    return (count + 1, banes, ())
+
+
+def tower(count):
+    """A ladder whose first guess is struck by the empty set."""
+    words, banes, rules = ladder(count)
+    return (words, banes, ((count, ()),))

@@ -151,6 +151,25 @@ class Code(unittest.TestCase):
                 self.assertNotIn(name, NO_NAMES, place)
                 self.assertNotIn(name, dir(builtins), place)
 
+    def test_no_local_is_called_like_a_class_or_an_import_of_its_file(self):
+        for path in FILES:
+            tree = parsed(path)
+            taken = [name for part in tree.body if isinstance(part, (ast.ClassDef, ast.ImportFrom))
+                     for name in bound_names(part)]
+            for node in ast.walk(tree):
+                if isinstance(node, (ast.arg, ast.Name)):
+                    for name in bound_names(node):
+                        self.assertNotIn(name, taken, f"{path.name}:{node.lineno}")
+
+    def test_methods_and_values_of_objects(self):
+        methods = [part.name for place, node in nodes(ast.ClassDef) for part in node.body
+                   if isinstance(part, ast.FunctionDef) and part.name not in DOUBLE]
+        values = [node.attr for place, node in nodes(ast.Attribute) if isinstance(node.ctx, ast.Store)]
+        self.assertEqual(set(methods) & set(values), set())
+        pythons_own = [name for kind in (str, int, list, tuple, dict, set, bytes) for name in dir(kind)]
+        for name in methods + values:
+            self.assertNotIn(name, pythons_own)
+
     def test_names_of_pythons_own(self):
         for place, node in nodes(ast.Name):
             if node.id in dir(builtins):
