@@ -12,17 +12,21 @@ def does_yield(book, held, word):
     return inside(1 << word, yielded(book, held))
 
 
-def reasons(book, word):
-    # What all guesses together do not yield, no set does; this spares the trial of each.
-    if not does_yield(book, all_guesses(book), word):
-        return ()
+def yielded_by_each(book):
+    return [yielded(book, held) for held in range(all_guesses(book) + 1)]
+
+
+def least_yielding(known, word):
     found = []
-    # Masks rise, so every smaller set within a set is tried ahead of it.
-    for held in range(all_guesses(book) + 1):
-        holds_one = any([inside(reason, held) for reason in found])
-        if not holds_one and does_yield(book, held, word):
+    # Masks rise, so every smaller set within a set is looked at ahead of it.
+    for held, words in enumerate(known):
+        if inside(1 << word, words) and not any([inside(reason, held) for reason in found]):
             found.append(held)
     return tuple(found)
+
+
+def reasons(book, word):
+    return least_yielding(yielded_by_each(book), word)
 
 
 def a_reason(book, within, word):

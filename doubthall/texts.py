@@ -76,9 +76,9 @@ def over_bounds(rows):
     return len(set(words_in(rows))) > MOST_WORDS
 
 
-def read_rows(text):
+def read_rows(lines):
     rows = []
-    for number, line in enumerate(lines_of(text)):
+    for number, line in enumerate(lines):
         told = read_row(line, number)
         if told_once(told) in [told_once(above) for above in rows]:
             raise Twice(number)
@@ -113,11 +113,15 @@ def numbered_book(names, rows):
     return (len(names), banes, rules)
 
 
-def read_book(text):
-    rows = read_rows(text)
+def read_lines(lines):
+    rows = read_rows(lines)
     refuse_headed(rows)
     names = names_of(rows)
     return (names, numbered_book(names, rows))
+
+
+def read_book(text):
+    return read_lines(lines_of(text))
 
 
 def shown_rule(names, rule):

@@ -55,6 +55,32 @@ def mixed_books(seed, count, most_guesses):
     return books
 
 
+def rival_book(dice, most_guesses):
+    """A tuple (names, book) where many guesses strike one another: many camps, and words that these share or not."""
+    guesses = dice.randint(2, most_guesses)
+    rules = []
+    for one in range(guesses):
+        for other in range(one + 1, guesses):
+            if dice.random() < 0.4:
+                rules.append((guesses + one, (other,)))
+                if dice.random() < 0.85:
+                    rules.append((guesses + other, (one,)))
+        if dice.random() < 0.1:
+            rules.append((guesses + one, (one,)))
+    many = 2 * guesses + 3
+    for _ in range(dice.randint(0, 8)):
+        rule = (dice.randrange(2 * guesses, many), tuple(sorted(dice.sample(range(many), dice.choice((1, 1, 1, 2))))))
+        if rule not in rules:
+            rules.append(rule)
+    banes = tuple(range(guesses, 2 * guesses))
+    return GUESS_NAMES[:guesses] + OTHER_NAMES[:guesses + 3], (many, banes, tuple(rules[:40]))
+
+
+def rival_books(seed, count, most_guesses):
+    dice = random.Random(seed)
+    return [rival_book(dice, most_guesses)[1] for _ in range(count)]
+
+
 def ladder(count):
     """Each guess is struck by the one ahead of it alone, the first by none."""
     banes = (count,) + tuple(range(count - 1))
@@ -65,3 +91,8 @@ def tower(count):
     """A ladder whose first guess is struck by the empty set."""
     words, banes, rules = ladder(count)
     return (words, banes, ((count, ()),))
+
+
+def ring(count):
+    """Each guess is struck by the one ahead of it alone, the first by the last one."""
+    return (count, (count - 1,) + tuple(range(count - 1)), ())

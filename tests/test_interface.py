@@ -3,7 +3,7 @@
 import inspect
 import unittest
 
-from doubthall import masks, reasons, settled, standing, talks, texts, yields
+from doubthall import camps, desk, lots, masks, reasons, sayings, settled, standing, talks, texts, yields
 
 SIGNATURES = {
     texts: {
@@ -52,6 +52,38 @@ SIGNATURES = {
         "winner": "(self)",
         "said": "(self)",
     },
+    camps: {
+        "camps": "(book, holding=0)",
+        "full": "(book)",
+    },
+    lots: {
+        "lot": "(book, word)",
+    },
+    lots.Lot: {
+        "called": "(self)",
+        "shown": "(self, names)",
+    },
+    sayings: {
+        "sayings": "(book)",
+        "strikes": "(book, one, other)",
+        "labels": "(book)",
+    },
+    desk: {
+        "Desk": "(text='')",
+    },
+    desk.Desk: {
+        "ask": "(self, line)",
+    },
+}
+# The classes beside the refusals, with the one base of each.
+BASES = {
+    talks.Talk: object,
+    lots.Lot: object,
+    lots.Settled: lots.Lot,
+    lots.Sure: lots.Lot,
+    lots.Maybe: lots.Lot,
+    lots.Never: lots.Lot,
+    desk.Desk: object,
 }
 
 
@@ -62,8 +94,15 @@ class Interface(unittest.TestCase):
                 with self.subTest(name):
                     self.assertEqual(str(inspect.signature(getattr(owner, name))), wanted)
 
-    def test_a_talk_is_a_class(self):
-        self.assertTrue(inspect.isclass(talks.Talk))
+    def test_classes_and_their_bases(self):
+        for kind, base in BASES.items():
+            with self.subTest(kind.__name__):
+                self.assertEqual(kind.__bases__, (base,))
+
+    def test_the_four_lots_have_the_methods_as_they_stand(self):
+        for kind in (lots.Settled, lots.Sure, lots.Maybe, lots.Never):
+            for name, wanted in SIGNATURES[lots.Lot].items():
+                self.assertEqual(str(inspect.signature(getattr(kind, name))), wanted)
 
     def test_arguments_may_be_named(self):
         book = (2, (1,), ((1, (0,)),))
@@ -82,6 +121,13 @@ class Interface(unittest.TestCase):
         talk.doubted(guess=0, striker=1)
         talk.replied(guess=0, striker=1)
         self.assertEqual(len(talk.said()), 2)
+        self.assertEqual(camps.camps(book=book, holding=1), ())
+        self.assertEqual(camps.full(book=book), ())
+        self.assertEqual(lots.lot(book=book, word=1).shown(names=("a", "b")), ["never"])
+        self.assertEqual(sayings.sayings(book=book), ((1, 0), (1, 1)))
+        self.assertIs(sayings.strikes(book=book, one=(1, 1), other=(1, 0)), True)
+        self.assertEqual(sayings.labels(book=book), ("left", "left"))
+        self.assertEqual(desk.Desk(text="a").ask(line="book"), ["a"])
 
 
 if __name__ == "__main__":

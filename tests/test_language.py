@@ -24,6 +24,7 @@ NO_NAMES = """attrgetter breakpoint builtins compile copyright credits delattr d
     open input version_info with_traceback add_note""".split()
 NO_WORDS = """type typing typing_extensions enum Enum IntEnum StrEnum Flag IntFlag Generic Protocol ABC ABCMeta
     namedtuple NamedTuple TypedDict TYPE_CHECKING abstractmethod""".split()
+WALKERS = "list tuple dict sorted sum any all enumerate zip".split()
 NODES = """Module FunctionDef arguments arg ClassDef Return Assign AugAssign For While If Raise Try ExceptHandler Expr
     Pass Break Continue BoolOp And Or BinOp UnaryOp Not USub Invert IfExp Dict Compare Call JoinedStr FormattedValue
     Constant Attribute Subscript Slice Name List Tuple ListComp comprehension Lambda Load Store Add Sub Mult
@@ -181,6 +182,28 @@ class Code(unittest.TestCase):
         for place, node in nodes(ast.Attribute):
             self.assertIn(node.attr, OWN_METHODS + own, place)
             self.assertNotIn(node.attr, NO_NAMES + ["args", "format", "format_map"], place)
+
+    def test_errors_that_are_taken(self):
+        own = [node.name for node in parsed(PACKAGE / "errors.py").body if isinstance(node, ast.ClassDef)]
+        for place, node in nodes(ast.ExceptHandler):
+            self.assertIsInstance(node.type, ast.Name, place)
+            self.assertIn(node.type.id, own, place)
+
+    def test_f_strings_hold_plain_names(self):
+        for place, node in nodes(ast.FormattedValue):
+            self.assertIsInstance(node.value, ast.Name, place)
+            self.assertIsNone(node.format_spec, place)
+
+    def test_what_is_walked_on_the_spot(self):
+        walked = set()
+        for place, node in nodes((ast.For, ast.comprehension)):
+            walked.add(ast.dump(node.iter, include_attributes=True))
+        for place, node in nodes(ast.Call):
+            if getattr(node.func, "id", None) in WALKERS:
+                walked.update(ast.dump(part, include_attributes=True) for part in node.args[:1])
+        for place, node in nodes(ast.Call):
+            if getattr(node.func, "id", None) in ("zip", "enumerate", "reversed", "range"):
+                self.assertIn(ast.dump(node, include_attributes=True), walked, place)
 
     def test_no_default_is_a_list_or_dict(self):
         for place, node in nodes(ast.FunctionDef):

@@ -1,4 +1,4 @@
-"""Points 9 to 17 word by word, by trying all sets of guesses; nothing here asks the package."""
+"""Points 9 to 17 and 22 to 29 word by word, by trying all sets of guesses; nothing here asks the package."""
 
 import functools
 
@@ -75,3 +75,52 @@ def ranks_of(book):
 
 def settled_places(book):
     return {guess for guess, rank in enumerate(ranks_of(book)) if rank is not None}
+
+
+def settled_set(book):
+    return sum(1 << guess for guess in settled_places(book))
+
+
+@functools.lru_cache(maxsize=None)
+def all_camps(book):
+    standing = [held for held in sets_of(book) if does_stand(book, held)]
+    return tuple(held for held in standing
+                 if not any(other != held and members(held) <= members(other) for other in standing))
+
+
+def all_full(book):
+    guesses = set(range(len(book[1])))
+    return tuple(held for held in sets_of(book)
+                 if has_peace(book, held) and guesses - members(held) <= all_struck(book, held))
+
+
+def lot_name(book, word):
+    if yields(book, settled_set(book), word):
+        return "settled"
+    yielding = [yields(book, camp, word) for camp in all_camps(book)]
+    if all(yielding):
+        return "sure"
+    return "maybe" if any(yielding) else "never"
+
+
+def all_sayings(book):
+    return tuple((reason, word) for word in range(book[0]) for reason in all_reasons(book, word))
+
+
+def saying_strikes(book, one, other):
+    return any(book[1][guess] == one[1] for guess in members(other[0]))
+
+
+def all_labels(book):
+    told = all_sayings(book)
+    strikers = [[one for one, saying in enumerate(told) if saying_strikes(book, saying, other)] for other in told]
+    labels = ["left"] * len(told)
+    while True:
+        before = list(labels)
+        for number, mine in enumerate(strikers):
+            if all(before[one] == "out" for one in mine):
+                labels[number] = "in"
+            if any(before[one] == "in" for one in mine):
+                labels[number] = "out"
+        if labels == before:
+            return tuple(labels)
