@@ -1,6 +1,7 @@
 """Points 31, 32 and 33: the desk, its lines and answers, and what it refuses."""
 
 import random
+import re
 import unittest
 
 from doubthall.camps import camps
@@ -359,8 +360,8 @@ class Drops(DeskTest):
     def test_what_is_not_kept(self):
         desk = Desk(TEXT)
         for row in ("guess sun unless sun", "guess moon unless rain", "guess rain unless rain", "light",
-                    "light if calm", "light if sun rain", "wet if rain", "wet if rain calm sun", "moon", "dull if dull", "sun", "calm",
-                    "rest if calm", "guess light unless sun"):
+                    "light if calm", "light if sun rain", "wet if rain", "wet if rain calm sun", "moon",
+                    "dull if dull", "sun", "calm", "rest if calm", "guess light unless sun"):
             self.refused(NotTold, desk, "drop " + row)
 
     def test_what_is_no_row(self):
@@ -430,9 +431,9 @@ class Refusals(DeskTest):
 
     def test_blanks(self):
         for line in (" lot wet", "lot wet ", "lot  wet", "lot ", " book", "book ", "book  ", "ranks ", " ranks",
-                     "camps ", "camps  sun", "camps sun ", "camps sun  rain", " camps", "flaw ", "flaw  sun", "flaw sun ",
-                     " flaw", "why ", "why  wet", "why wet ", "why wet  by sun", "why wet by ", "why wet by  sun",
-                     "why wet by sun ", "why wet by sun  rain", " why wet", " tell a", " drop dull", "  "):
+                     "camps ", "camps  sun", "camps sun ", "camps sun  rain", " camps", "flaw ", "flaw  sun",
+                     "flaw sun ", " flaw", "why ", "why  wet", "why wet ", "why wet  by sun", "why wet by ",
+                     "why wet by  sun", "why wet by sun ", "why wet by sun  rain", " why wet", " tell a", " drop dull", "  "):
             self.refused(NoAsk, self.desk, line)
 
     def test_what_is_no_word(self):
@@ -597,6 +598,28 @@ class ManyLines(DeskTest):
                 else:
                     self.try_asking(desk, rows, dice, seen)
         self.assertGreater(min(seen.values()), 15, seen)
+
+    def test_lines_of_any_form(self):
+        word = "(?!(guess|unless|if)(?![a-z]))[a-z]{1,12}"
+        form = re.compile(f"lot {word}|why {word}( by( {word})+)?|(flaw|camps)( {word})*|ranks|book")
+        dice = random.Random(123)
+        firsts = ("lot", "why", "flaw", "camps", "ranks", "book")
+        others = ("by", "by", "sun", "sun", "rain", "wet", "moon", "if", "", "Sun", "guess", "guessing", "sun\n")
+        pieces = firsts + others
+        seen = {NoAsk: 0, NoWord: 0, NotGuess: 0, None: 0}
+        desk = Desk(TEXT)
+        for _ in range(4000):
+            named = [dice.choice(pieces) for _ in range(dice.choice((0, 1, 1, 2, 3, 4)))]
+            line = " ".join([dice.choice(firsts)] + named)
+            try:
+                desk.ask(line)
+                found = None
+            except HallError as refusal:
+                found = type(refusal)
+            self.assertEqual(found == NoAsk, form.fullmatch(line) is None, line)
+            seen[found] += 1
+        self.assertGreater(min(seen.values()), 20, seen)
+        self.assertEqual(desk.ask("book"), SHOWN)
 
     def test_the_same_as_a_new_desk_of_the_rows_kept(self):
         dice = random.Random(122)
